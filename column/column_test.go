@@ -1,0 +1,114 @@
+package column
+
+import (
+	"math"
+	"strings"
+	"testing"
+
+	"seam/api"
+)
+
+func TestIsType(t *testing.T) {
+	for _, kind := range []int{1, 2, 3, 4} {
+		if !IsType(kind) {
+			t.Errorf("%d is a type", kind)
+		}
+	}
+	for _, kind := range []int{0, 5, -1, math.MinInt, math.MaxInt, 1 << 32, 1<<32 + 1} {
+		if IsType(kind) {
+			t.Errorf("%d is no type", kind)
+		}
+	}
+}
+
+func TestFits(t *testing.T) {
+	full := strings.Repeat("\xff", api.MaxText)
+	for _, c := range []struct {
+		v                         api.Value
+		isInt, real, text, isFlag bool
+	}{
+		{api.Value{}, true, true, true, true},
+		{api.Value{N: 1}, true, true, false, true},
+		{api.Value{N: 2}, true, true, false, false},
+		{api.Value{N: -1}, true, true, false, false},
+		{api.Value{N: math.MinInt64}, true, true, false, false},
+		{api.Value{N: math.MaxInt64}, true, true, false, false},
+		{api.Value{S: "\x00"}, false, false, true, false},
+		{api.Value{N: 1, S: "a"}, false, false, false, false},
+		{api.Value{S: full}, false, false, true, false},
+		{api.Value{S: full + "x"}, false, false, false, false},
+	} {
+		for kind, want := range map[int]bool{api.Int: c.isInt, api.Real: c.real, api.Text: c.text, api.Flag: c.isFlag, 0: false, 5: false} {
+			if Fits(kind, c.v) != want {
+				t.Errorf("Fits(%d, %v): want %v", kind, c.v, want)
+			}
+		}
+	}
+}
+
+// answersAre: what the deeds from Same to AtLeast answer, one sign each.
+func answersAre(t *testing.T, kind int, a, b api.Value, want string) {
+	t.Helper()
+	got := ""
+	for deed := api.Same; deed <= api.AtLeast; deed++ {
+		sign := "-"
+		if Holds(kind, deed, a, b) {
+			sign = "y"
+		}
+		got += sign
+	}
+	if got != want {
+		t.Errorf("type %d, %v to %v: %s, want %s", kind, a, b, got, want)
+	}
+}
+
+// The signs of Same, Other, Below, AtMost, Above, AtLeast.
+const (
+	equal   = "y--y-y"
+	less    = "-yyy--"
+	greater = "-y--yy"
+	neither = "-y----"
+)
+
+// inOrder: each value is below all behind it.
+func inOrder(t *testing.T, kind int, values ...api.Value) {
+	t.Helper()
+	for i, a := range values {
+		for j, b := range values {
+			switch {
+			case i < j:
+				answersAre(t, kind, a, b, less)
+			case i > j:
+				answersAre(t, kind, a, b, greater)
+			default:
+				answersAre(t, kind, a, b, equal)
+			}
+		}
+	}
+}
+
+func ofBits(f float64) api.Value { return api.Value{N: int64(math.Float64bits(f))} }
+
+func TestHoldsInOrder(t *testing.T) {
+	inOrder(t, api.Int, api.Value{N: math.MinInt64}, api.Value{N: -1}, api.Value{}, api.Value{N: 1}, api.Value{N: 1<<53 + 1}, api.Value{N: 1<<53 + 2}, api.Value{N: math.MaxInt64})
+	inOrder(t, api.Flag, api.Value{}, api.Value{N: 1})
+	inOrder(t, api.Text, api.Value{}, api.Value{S: "\x00"}, api.Value{S: "Z"}, api.Value{S: "a"}, api.Value{S: "a\x00"}, api.Value{S: "ab"}, api.Value{S: "b"}, api.Value{S: "\x7f"}, api.Value{S: "é"}, api.Value{S: "\xff"})
+	inOrder(t, api.Real, ofBits(math.Inf(-1)), ofBits(-math.MaxFloat64), ofBits(-1.5), ofBits(-math.SmallestNonzeroFloat64), ofBits(0), ofBits(math.SmallestNonzeroFloat64), ofBits(1), ofBits(math.MaxFloat64), ofBits(math.Inf(1)))
+}
+
+func TestHoldsOfZeros(t *testing.T) {
+	minus := ofBits(math.Copysign(0, -1))
+	answersAre(t, api.Real, minus, ofBits(0), equal)
+	answersAre(t, api.Real, ofBits(0), minus, equal)
+	answersAre(t, api.Real, minus, ofBits(1), less)
+	answersAre(t, api.Real, minus, ofBits(-1), greater)
+}
+
+func TestHoldsOfNoNumber(t *testing.T) {
+	for _, none := range []api.Value{ofBits(math.NaN()), {N: -1}, {N: 0x7ff0000000000001}, {N: math.MaxInt64}} {
+		for _, other := range []api.Value{none, {N: -1}, ofBits(0), ofBits(1), ofBits(math.Inf(1)), ofBits(math.Inf(-1))} {
+			answersAre(t, api.Real, none, other, neither)
+			answersAre(t, api.Real, other, none, neither)
+		}
+	}
+}
