@@ -41,6 +41,29 @@ func Holds(kind, deed int, v, other api.Value) bool {
 	return holds(deed, v.N, other.N)
 }
 
+// Least tells which of two values none is ahead of: the first one, if that is both. Both fit that type.
+// Of Real values cmp.Less has the order that is asked for; min and max would take -0 ahead of 0, and what is no number for the most too. Other values have N or S alone, and none ahead of each other only if they are the same.
+func Least(kind int, first, second api.Value) api.Value {
+	if kind == api.Real {
+		if cmp.Less(number(second), number(first)) {
+			return second
+		}
+		return first
+	}
+	return api.Value{N: min(first.N, second.N), S: min(first.S, second.S)}
+}
+
+// Most tells which of two values none is behind: the first one, if that is both. Both fit that type.
+func Most(kind int, first, second api.Value) api.Value {
+	if kind == api.Real {
+		if cmp.Less(number(first), number(second)) {
+			return second
+		}
+		return first
+	}
+	return api.Value{N: max(first.N, second.N), S: max(first.S, second.S)}
+}
+
 func number(v api.Value) float64 { return math.Float64frombits(uint64(v.N)) }
 
 // holds uses an operator for each deed, not the answer of one comparison: to what is no number all but Other says no, so that no deed is another one's opposite.

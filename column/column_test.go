@@ -112,3 +112,55 @@ func TestHoldsOfNoNumber(t *testing.T) {
 		}
 	}
 }
+
+// extremesAre: the least and the most of two values, whichever of them comes first.
+func extremesAre(t *testing.T, kind int, least, most api.Value) {
+	t.Helper()
+	for _, pair := range [][2]api.Value{{least, most}, {most, least}} {
+		if got := Least(kind, pair[0], pair[1]); got != least {
+			t.Errorf("type %d, least of %v: %v, want %v", kind, pair, got, least)
+		}
+		if got := Most(kind, pair[0], pair[1]); got != most {
+			t.Errorf("type %d, most of %v: %v, want %v", kind, pair, got, most)
+		}
+	}
+}
+
+func TestLeastAndMost(t *testing.T) {
+	extremesAre(t, api.Int, api.Value{N: math.MinInt64}, api.Value{N: math.MaxInt64})
+	extremesAre(t, api.Int, api.Value{N: -1}, api.Value{})
+	extremesAre(t, api.Int, api.Value{N: 1<<53 + 1}, api.Value{N: 1<<53 + 2})
+	extremesAre(t, api.Int, api.Value{N: 7}, api.Value{N: 7})
+	extremesAre(t, api.Flag, api.Value{}, api.Value{N: 1})
+	extremesAre(t, api.Text, api.Value{}, api.Value{S: "\x00"})
+	extremesAre(t, api.Text, api.Value{S: "Z"}, api.Value{S: "a"})
+	extremesAre(t, api.Text, api.Value{S: "ab"}, api.Value{S: "b"})
+	extremesAre(t, api.Text, api.Value{S: "a"}, api.Value{S: "\xff"})
+	extremesAre(t, api.Real, ofBits(-2), ofBits(-1))
+	extremesAre(t, api.Real, ofBits(-1), ofBits(1))
+	extremesAre(t, api.Real, ofBits(math.Inf(-1)), ofBits(-math.MaxFloat64))
+	extremesAre(t, api.Real, ofBits(math.MaxFloat64), ofBits(math.Inf(1)))
+}
+
+// What is no number is ahead of all others, whatever sign its bits have.
+func TestLeastAndMostOfNoNumber(t *testing.T) {
+	for _, none := range []api.Value{ofBits(math.NaN()), {N: -1}, {N: 0x7ff0000000000001}, {N: math.MaxInt64}} {
+		for _, other := range []float64{math.Inf(-1), -1, 0, 1, math.Inf(1)} {
+			extremesAre(t, api.Real, none, ofBits(other))
+		}
+	}
+}
+
+// Where none is ahead, the first one is both the least and the most, bit for bit.
+func TestLeastAndMostOfEquals(t *testing.T) {
+	zero, minus := ofBits(0), ofBits(math.Copysign(0, -1))
+	quiet, loud := ofBits(math.NaN()), api.Value{N: 0x7ff0000000000001}
+	for _, pair := range [][2]api.Value{{zero, minus}, {minus, zero}, {quiet, loud}, {loud, quiet}, {loud, {N: -1}}, {{N: -1}, loud}} {
+		if got := Least(api.Real, pair[0], pair[1]); got != pair[0] {
+			t.Errorf("least of %v: %v", pair, got)
+		}
+		if got := Most(api.Real, pair[0], pair[1]); got != pair[0] {
+			t.Errorf("most of %v: %v", pair, got)
+		}
+	}
+}

@@ -31,17 +31,16 @@ func TestNoCallPanics(t *testing.T) {
 	for _, s := range wildTexts() {
 		seam.Load(s)
 	}
-	table := newTable(t, api.Int, api.Real, api.Text, api.Flag)
-	appendAll(t, table, row(number(1), number(2), text("3"), number(1)), row(number(0), number(0), text(""), number(0)))
+	table := smallTable(t)
 	for _, n := range wild() {
 		for _, s := range wildTexts() {
 			v := api.Value{N: int64(n), S: s}
 			table.Append(slices.Repeat(row(v), 4))
 			table.Append(row(v))
 			for _, do := range wild() {
-				askEverything(table, list(ask(do, n, v)), n)
-				askEverything(table, list(ask(api.Same, 0, number(1)), ask(do, n, v)), do)
-				askEverything(table, slices.Repeat(list(ask(do, n, v)), 40), n)
+				askEverything(t, list(ask(do, n, v)), n)
+				askEverything(t, list(ask(api.Same, 0, number(1)), ask(do, n, v)), do)
+				askEverything(t, slices.Repeat(list(ask(do, n, v)), 40), n)
 			}
 		}
 	}
@@ -50,8 +49,19 @@ func TestNoCallPanics(t *testing.T) {
 	table.Dump()
 }
 
-func askEverything(table *seam.Table, tests []api.Test, n int) {
+func smallTable(t *testing.T) *seam.Table {
+	table := newTable(t, api.Int, api.Real, api.Text, api.Flag)
+	appendAll(t, table, row(number(1), number(2), text("3"), number(1)), row(number(0), number(0), text(""), number(0)))
+	return table
+}
+
+func askEverything(t *testing.T, tests []api.Test, n int) {
+	table := smallTable(t)
 	table.Scan(tests)
+	for how := range 5 {
+		table.Fold(tests, n, how)
+		table.Fold(nil, how, n)
+	}
 	table.Delete(tests)
 	table.Fold(tests, n, n)
 }
@@ -63,6 +73,8 @@ func TestLongLists(t *testing.T) {
 	table := newTable(t, api.Int)
 	isFault(t, "Append", table.Append(make([]api.Value, 1<<16)), api.BadRow, -1)
 	scanFails(t, table, make([]api.Test, 1<<16), -1)
+	deleteFails(t, table, make([]api.Test, 1<<16), -1)
+	foldFails(t, table, make([]api.Test, 1<<16), 9, 9, api.BadTest, -1)
 }
 
 // P1: with an error nothing is changed.
@@ -71,7 +83,11 @@ func TestFaultsChangeNothing(t *testing.T) {
 	appendAll(t, table, row(number(5), text("a")))
 	isFault(t, "Append", table.Append(row(number(6))), api.BadRow, -1)
 	isFault(t, "Append", table.Append(row(number(6), number(6))), api.BadRow, 1)
-	scanFails(t, table, list(ask(api.Same, 0, number(5)), ask(api.Same, 9, number(5))), 1)
+	tests := list(ask(api.Same, 0, number(5)), ask(api.Same, 9, number(5)))
+	scanFails(t, table, tests, 1)
+	deleteFails(t, table, tests, 1)
+	foldFails(t, table, tests, 0, api.Sum, api.BadTest, 1)
+	foldFails(t, table, nil, 1, api.Sum, api.BadColumn, 1)
 	scanIs(t, table, nil, row(number(5), text("a")))
 }
 
@@ -92,8 +108,14 @@ func TestListsHandedInAreNotKept(t *testing.T) {
 	isFault(t, "Append", table.Append(row(text("a"), number(5))), api.BadRow, 0)
 	tests := list(ask(api.Same, 0, number(5)))
 	scanIs(t, table, tests, row(number(5), text("a")))
+	foldIs(t, table, tests, 1, api.Least, text("a"), 1)
 	tests[0].V = number(6)
 	scanIs(t, table, tests, row(number(6), text("b")))
+	foldIs(t, table, tests, 1, api.Least, text("b"), 1)
+	deleteIs(t, table, tests, 1)
+	tests[0].V = number(5)
+	scanIs(t, table, nil, row(number(5), text("a")))
+	deleteIs(t, table, tests, 1)
 }
 
 // P2: what is handed in is not written into, nor is its spare room.
@@ -108,6 +130,8 @@ func TestListsHandedInAreNotChanged(t *testing.T) {
 	yes, spare := ask(api.Same, 0, number(5)), ask(77, 77, text("spare"))
 	tests := list(yes, yes, api.Test{Do: api.And}, api.Test{Do: api.Not}, api.Test{Do: api.Not}, spare, spare)
 	scanIs(t, table, tests[:5], row(number(5), number(6)))
+	foldIs(t, table, tests[:5], 1, api.Most, number(6), 1)
+	deleteIs(t, table, tests[:5], 1)
 	if !slices.Equal(schema, []int{api.Int, api.Int, 77, 77, 77}) {
 		t.Errorf("New wrote into the schema: %v", schema)
 	}
@@ -115,7 +139,7 @@ func TestListsHandedInAreNotChanged(t *testing.T) {
 		t.Errorf("Append wrote into the row: %v", values)
 	}
 	if !slices.Equal(tests, list(yes, yes, api.Test{Do: api.And}, api.Test{Do: api.Not}, api.Test{Do: api.Not}, spare, spare)) {
-		t.Errorf("Scan wrote into the tests: %v", tests)
+		t.Errorf("a call wrote into the tests: %v", tests)
 	}
 }
 
@@ -149,10 +173,11 @@ func TestListsThatComeOutAreNew(t *testing.T) {
 		}
 		clear(out[:cap(out)])
 	}
+	deleteIs(t, table, list(ask(api.Same, 0, number(6))), 1)
 	if !slices.EqualFunc(kept, [][]api.Value{a, b, c}, slices.Equal) {
-		t.Errorf("writing into later answers changed an earlier one: %v", kept)
+		t.Errorf("later calls, or writing into their answers, changed an earlier one: %v", kept)
 	}
-	scanIs(t, table, nil, a, b, c)
+	scanIs(t, table, nil, a, c)
 }
 
 // P2: faults too are not shared: what a caller writes into one is not in the next one.
@@ -162,6 +187,10 @@ func TestFaultsAreNew(t *testing.T) {
 	isFault(t, "Append", err, api.BadRow, -1)
 	err.(*api.Fault).At = 99
 	isFault(t, "Append", table.Append(nil), api.BadRow, -1)
+	_, _, err = table.Fold(nil, 1, api.Sum)
+	isFault(t, "Fold", err, api.BadColumn, 1)
+	err.(*api.Fault).At = 99
+	foldFails(t, table, nil, 1, api.Sum, api.BadColumn, 1)
 }
 
 // P2: tables do not disturb one another, and the same calls answer the same.
@@ -173,7 +202,11 @@ func TestTablesAreApart(t *testing.T) {
 	for range 3 {
 		scanIs(t, one, nil, row(number(1)), row(number(2)))
 		scanIs(t, other, nil, row(number(3)))
+		foldIs(t, one, nil, 0, api.Sum, number(3), 2)
+		foldIs(t, other, nil, 0, api.Most, number(3), 1)
 	}
+	deleteIs(t, one, nil, 2)
+	scanIs(t, other, nil, row(number(3)))
 }
 
 // P2: no goroutine runs any more when a call has answered.
@@ -184,6 +217,10 @@ func TestNoGoroutineIsLeft(t *testing.T) {
 		appendAll(t, table, row(number(i)))
 		table.Scan(nil)
 		table.Scan(list(api.Test{}))
+		table.Fold(nil, 0, api.Sum)
+		table.Fold(nil, 1, api.Sum)
+		table.Delete(list(ask(api.Same, 0, number(i-7))))
+		table.Delete(list(api.Test{}))
 	}
 	for range 100 {
 		if runtime.NumGoroutine() <= before {

@@ -53,6 +53,38 @@ func scanFails(t *testing.T, table *seam.Table, tests []api.Test, at int) {
 	}
 }
 
+func deleteIs(t *testing.T, table *seam.Table, tests []api.Test, want int) {
+	t.Helper()
+	if got, err := table.Delete(tests); err != nil || got != want {
+		t.Errorf("Delete(%v): %d, %v, want %d", tests, got, err, want)
+	}
+}
+
+func deleteFails(t *testing.T, table *seam.Table, tests []api.Test, at int) {
+	t.Helper()
+	got, err := table.Delete(tests)
+	isFault(t, "Delete", err, api.BadTest, at)
+	if got != 0 {
+		t.Errorf("Delete(%v): %d beside an error", tests, got)
+	}
+}
+
+func foldIs(t *testing.T, table *seam.Table, tests []api.Test, column, how int, want api.Value, rows int) {
+	t.Helper()
+	if got, count, err := table.Fold(tests, column, how); err != nil || got != want || count != rows {
+		t.Errorf("Fold(%v, %d, %d): %v, %d, %v, want %v, %d", tests, column, how, got, count, err, want, rows)
+	}
+}
+
+func foldFails(t *testing.T, table *seam.Table, tests []api.Test, column, how, kind, at int) {
+	t.Helper()
+	got, count, err := table.Fold(tests, column, how)
+	isFault(t, "Fold", err, kind, at)
+	if got != (api.Value{}) || count != 0 {
+		t.Errorf("Fold(%v, %d, %d): %v, %d beside an error", tests, column, how, got, count)
+	}
+}
+
 func number(n int64) api.Value { return api.Value{N: n} }
 
 func text(s string) api.Value { return api.Value{S: s} }

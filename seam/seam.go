@@ -32,11 +32,15 @@ func (t *Table) Scan(tests []api.Test) ([][]api.Value, error) {
 }
 
 // Delete takes out all rows for which the tests say yes (P6).
-func (t *Table) Delete(tests []api.Test) (int, error) { return 0, nil }
+func (t *Table) Delete(tests []api.Test) (int, error) {
+	count, err := t.store.Delete(tests)
+	return count, faultIn(err)
+}
 
 // Fold makes one value of a column's (P7).
 func (t *Table) Fold(tests []api.Test, column int, how int) (api.Value, int, error) {
-	return api.Value{}, 0, nil
+	value, count, err := t.store.Fold(tests, column, how)
+	return value, count, faultIn(err)
 }
 
 // Flush puts all fresh rows into segments (P8).

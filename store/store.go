@@ -2,6 +2,7 @@
 package store
 
 import (
+	"iter"
 	"slices"
 	"strings"
 
@@ -9,6 +10,7 @@ import (
 	"seam/column"
 	"seam/fault"
 	"seam/sieve"
+	"seam/tally"
 )
 
 // Store is the rows of one table.
@@ -62,12 +64,56 @@ func (s *Store) Scan(tests []api.Test) ([][]api.Value, error) {
 		return nil, err
 	}
 	var found [][]api.Value
-	for _, row := range s.fresh {
-		if asked.Passes(row) {
-			found = append(found, apart(row))
-		}
+	for row := range s.passing(asked) {
+		found = append(found, apart(row))
 	}
 	return found, nil
+}
+
+// Delete takes out all rows to which the tests say yes, and tells how many they were.
+func (s *Store) Delete(tests []api.Test) (int, error) {
+	asked, err := sieve.New(s.schema, tests)
+	if err != nil {
+		return 0, err
+	}
+	kept := s.fresh[:0]
+	for _, row := range s.fresh {
+		if !asked.Passes(row) {
+			kept = append(kept, row)
+		}
+	}
+	gone := s.fresh[len(kept):]
+	clear(gone)
+	s.fresh = kept
+	return len(gone), nil
+}
+
+// Fold makes one value of a column's, in those rows to which the tests say yes, and tells how many they were.
+func (s *Store) Fold(tests []api.Test, at, how int) (api.Value, int, error) {
+	asked, err := sieve.New(s.schema, tests)
+	if err != nil {
+		return api.Value{}, 0, err
+	}
+	made, err := tally.New(s.schema, at, how)
+	if err != nil {
+		return api.Value{}, 0, err
+	}
+	for row := range s.passing(asked) {
+		made.Add(row[at])
+	}
+	value, count := made.Result()
+	return value, count, nil
+}
+
+// passing goes through the rows to which the tests say yes, in their order.
+func (s *Store) passing(asked sieve.Sieve) iter.Seq[[]api.Value] {
+	return func(yield func([]api.Value) bool) {
+		for _, row := range s.fresh {
+			if asked.Passes(row) && !yield(row) {
+				return
+			}
+		}
+	}
 }
 
 // apart copies a row, texts too: a short text that is a piece of a long one would keep all of it.

@@ -32,10 +32,38 @@ func TestRefusalsWrapFaults(t *testing.T) {
 	wraps(t, s.Append([]api.Value{{S: "x"}}), api.BadRow, 0)
 	_, err = s.Scan([]api.Test{{}})
 	wraps(t, err, api.BadTest, 0)
+	_, err = s.Delete([]api.Test{{}})
+	wraps(t, err, api.BadTest, 0)
+	_, _, err = s.Fold([]api.Test{{}}, 0, api.Sum)
+	wraps(t, err, api.BadTest, 0)
+	_, _, err = s.Fold(nil, 1, api.Sum)
+	wraps(t, err, api.BadColumn, 1)
 	for range api.MaxRows {
 		if err := s.Append([]api.Value{{}}); err != nil {
 			t.Fatal(err)
 		}
 	}
 	wraps(t, s.Append([]api.Value{{}}), api.BadMany, 0)
+}
+
+// Rows that are no more are not kept in the buffer's spare room.
+func TestDeleteLetsGo(t *testing.T) {
+	s, err := New([]int{api.Int})
+	if err != nil {
+		t.Fatal(err)
+	}
+	for i := range int64(10) {
+		if err := s.Append([]api.Value{{N: i}}); err != nil {
+			t.Fatal(err)
+		}
+	}
+	count, err := s.Delete([]api.Test{{Do: api.Below, V: api.Value{N: 7}}})
+	if count != 7 || err != nil || len(s.fresh) != 3 {
+		t.Fatalf("Delete: %d, %v; %d rows left", count, err, len(s.fresh))
+	}
+	for _, row := range s.fresh[3:cap(s.fresh)] {
+		if row != nil {
+			t.Errorf("still kept: %v", row)
+		}
+	}
 }
