@@ -1,4 +1,4 @@
-// Package column knows the types of columns: which values fit them, and how their values compare.
+// Package column knows the types of columns: which of them make a schema, which values fit them, and how their values compare.
 package column
 
 import (
@@ -6,7 +6,21 @@ import (
 	"math"
 
 	"seam/api"
+	"seam/fault"
 )
+
+// CheckSchema refuses what is no schema.
+func CheckSchema(schema []int) error {
+	for i, kind := range schema {
+		if !IsType(kind) {
+			return fault.Refuse("a column is of no type", api.BadSchema, i)
+		}
+	}
+	if len(schema) < 1 || len(schema) > api.MaxColumns {
+		return fault.Refuse("too many columns, or none", api.BadSchema, -1)
+	}
+	return nil
+}
 
 // IsType tells whether there is such a type of columns.
 func IsType(kind int) bool {

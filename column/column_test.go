@@ -1,6 +1,7 @@
 package column
 
 import (
+	"errors"
 	"math"
 	"strings"
 	"testing"
@@ -17,6 +18,25 @@ func TestIsType(t *testing.T) {
 	for _, kind := range []int{0, 5, -1, math.MinInt, math.MaxInt, 1 << 32, 1<<32 + 1} {
 		if IsType(kind) {
 			t.Errorf("%d is no type", kind)
+		}
+	}
+}
+
+func TestCheckSchema(t *testing.T) {
+	for _, c := range []struct {
+		schema []int
+		at     int
+	}{
+		{nil, -1}, {[]int{1, 1, 1, 1, 1, 1, 1}, -1}, {[]int{0}, 0}, {[]int{1, 2, 5}, 2}, {[]int{1, 1, 1, 1, 1, 1, 1, 9}, 7},
+	} {
+		var found *api.Fault
+		if err := CheckSchema(c.schema); !errors.As(err, &found) || *found != (api.Fault{Kind: api.BadSchema, At: c.at}) {
+			t.Errorf("%v: %v, want BadSchema, %d", c.schema, err, c.at)
+		}
+	}
+	for _, schema := range [][]int{{1}, {4}, {1, 2, 3, 4, 4, 3}} {
+		if err := CheckSchema(schema); err != nil {
+			t.Errorf("%v: %v", schema, err)
 		}
 	}
 }

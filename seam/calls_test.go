@@ -44,14 +44,17 @@ func TestNoCallPanics(t *testing.T) {
 			}
 		}
 	}
-	table.Flush()
-	table.Merge()
-	table.Dump()
+	for _, turn := range turns(t) {
+		table = turn(table)
+	}
 }
 
+// smallTable has a row in a segment, and a fresh one.
 func smallTable(t *testing.T) *seam.Table {
 	table := newTable(t, api.Int, api.Real, api.Text, api.Flag)
-	appendAll(t, table, row(number(1), number(2), text("3"), number(1)), row(number(0), number(0), text(""), number(0)))
+	appendAll(t, table, row(number(1), number(2), text("3"), number(1)))
+	table.Flush()
+	appendAll(t, table, row(number(0), number(0), text(""), number(0)))
 	return table
 }
 
@@ -205,8 +208,12 @@ func TestTablesAreApart(t *testing.T) {
 		foldIs(t, one, nil, 0, api.Sum, number(3), 2)
 		foldIs(t, other, nil, 0, api.Most, number(3), 1)
 	}
+	one.Flush()
+	read := load(t, one.Dump())
 	deleteIs(t, one, nil, 2)
+	one.Merge()
 	scanIs(t, other, nil, row(number(3)))
+	scanIs(t, read, nil, row(number(1)), row(number(2)))
 }
 
 // P2: no goroutine runs any more when a call has answered.
@@ -221,8 +228,16 @@ func TestNoGoroutineIsLeft(t *testing.T) {
 		table.Fold(nil, 1, api.Sum)
 		table.Delete(list(ask(api.Same, 0, number(i-7))))
 		table.Delete(list(api.Test{}))
+		if i%10 == 9 {
+			table.Flush()
+		}
+		if i%70 == 69 {
+			table.Merge()
+			seam.Load(table.Dump())
+			seam.Load(table.Dump()[1:])
+		}
 	}
-	for range 100 {
+	for range 1000 {
 		if runtime.NumGoroutine() <= before {
 			return
 		}

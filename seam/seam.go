@@ -44,16 +44,22 @@ func (t *Table) Fold(tests []api.Test, column int, how int) (api.Value, int, err
 }
 
 // Flush puts all fresh rows into segments (P8).
-func (t *Table) Flush() {}
+func (t *Table) Flush() { t.store.Flush() }
 
 // Merge writes segments anew (P8).
-func (t *Table) Merge() {}
+func (t *Table) Merge() { t.store.Merge() }
 
 // Dump tells the table as bytes (P9).
-func (t *Table) Dump() string { return "" }
+func (t *Table) Dump() string { return t.store.Dump() }
 
 // Load reads a table (P9).
-func Load(bytes string) (*Table, error) { return nil, nil }
+func Load(bytes string) (*Table, error) {
+	read, err := store.Load(bytes)
+	if err != nil {
+		return nil, faultIn(err)
+	}
+	return &Table{store: read}, nil
+}
 
 // faultIn finds the fault that an inner error wraps: callers are promised the fault itself, and nothing around it.
 func faultIn(err error) error {
